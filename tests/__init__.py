@@ -1,0 +1,1 @@
+"""The tests of wholeconic; README.md tells how to run them."""

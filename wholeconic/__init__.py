@@ -1,0 +1,1 @@
+"""Wholeconic: every whole-number point of curves of second degree."""
