@@ -14,10 +14,28 @@ LISTED = {
     "fractions": {
         "expand": ["p", "q", "d"], "convergents": ["parts"], "part_at": ["expansion", "index"], "pell": ["d"],
     },
+    "matrices": {
+        "multiply": ["m", "n"], "determinant": ["m"], "apply": ["m", "point"], "negative": ["m"], "inverse": ["m"],
+        "raised": ["m", "many"],
+    },
+    "forms": {
+        "discriminant": ["form"], "content": ["form"], "worth": ["form", "point"], "act": ["form", "m"],
+        "scaled": ["form", "number"], "divided": ["form", "number"], "kind": ["form"],
+    },
+    "definite": {
+        "is_reduced": ["form"], "reduce_definite": ["form"], "self_changes": ["form"], "positive_classes": ["d"],
+    },
+    "indefinite": {
+        "is_reduced": ["form"], "reduce_indefinite": ["form"], "step_of": ["form"], "cycle": ["form"],
+        "canonical": ["form"], "least_unit": ["d"], "self_change": ["form"],
+    },
 }
 
 
 class TestInterface(unittest.TestCase):
+
+    def test_values(self):
+        self.assertEqual(importlib.import_module("wholeconic.matrices").UNIT, (1, 0, 0, 1))
 
     def test_names_arguments_and_places(self):
         for word, names in LISTED.items():
@@ -38,6 +56,27 @@ class TestInterface(unittest.TestCase):
             ("fractions", "convergents", {"parts": [3]}, [(3, 1)]),
             ("fractions", "part_at", {"expansion": ((1,), (2,)), "index": 5}, 2),
             ("fractions", "pell", {"d": 3}, (2, 1)),
+            ("matrices", "multiply", {"m": (2, 1, 1, 1), "n": (1, 1, 0, 1)}, (2, 3, 1, 2)),
+            ("matrices", "determinant", {"m": (2, 1, 1, 1)}, 1),
+            ("matrices", "apply", {"m": (2, 1, 1, 1), "point": (1, 0)}, (2, 1)),
+            ("matrices", "negative", {"m": (2, 1, 1, 1)}, (-2, -1, -1, -1)),
+            ("matrices", "inverse", {"m": (2, 1, 1, 1)}, (1, -1, -1, 2)),
+            ("matrices", "raised", {"m": (2, 1, 1, 1), "many": 2}, (5, 3, 3, 2)),
+            ("forms", "discriminant", {"form": (1, 1, 6)}, -23), ("forms", "content", {"form": (2, 4, 6)}, 2),
+            ("forms", "worth", {"form": (1, 1, 6), "point": (1, 1)}, 8),
+            ("forms", "act", {"form": (1, 1, 6), "m": (0, -1, 1, 0)}, (6, -1, 1)),
+            ("forms", "scaled", {"form": (1, 1, 6), "number": 2}, (2, 2, 12)),
+            ("forms", "divided", {"form": (2, 2, 12), "number": 2}, (1, 1, 6)),
+            ("forms", "kind", {"form": (1, 1, 6)}, "definite"),
+            ("definite", "is_reduced", {"form": (1, 1, 6)}, True),
+            ("definite", "reduce_definite", {"form": (1, 1, 6)}, ((1, 1, 6), (1, 0, 0, 1))),
+            ("definite", "positive_classes", {"d": -3}, [(1, 1, 1)]),
+            ("indefinite", "is_reduced", {"form": (1, 1, -1)}, True),
+            ("indefinite", "reduce_indefinite", {"form": (1, 1, -1)}, ((1, 1, -1), (1, 0, 0, 1))),
+            ("indefinite", "step_of", {"form": (1, 1, -1)}, (0, -1, 1, -1)),
+            ("indefinite", "canonical", {"form": (-1, 1, 1)}, ((-1, 1, 1), (1, 0, 0, 1))),
+            ("indefinite", "least_unit", {"d": 5}, (3, 1)),
+            ("indefinite", "self_change", {"form": (1, 0, -2)}, (3, 4, 2, 3)),
         ):
             module = importlib.import_module("wholeconic." + word)
             self.assertEqual(getattr(module, name)(**given), expected)

@@ -50,11 +50,19 @@ def part_at(expansion, index):
     return period[(index - len(first)) % len(period)]
 
 
-def pell(d):
-    """Return the least x, y > 0 with x * x - d * y * y == 1, for d > 0 that is no square."""
-    expansion = expand(0, 1, d)
+def even_turn(p, q, d):
+    """Return the convergent behind as many parts of (p + w) / q as one period has, or two if that is odd.
+
+    The number has at most one first part: so these parts are a whole turn, whose end is that of the period.
+    """
+    expansion = expand(p, q, d)
     many = len(expansion[1])
-    # Behind an odd period stands a solution of -1; the one of 1 stands behind the next period.
     if many % 2 == 1:
         many = 2 * many
     return convergents([part_at(expansion, index) for index in range(many)])[-1]
+
+
+def pell(d):
+    """Return the least x, y > 0 with x * x - d * y * y == 1, for d > 0 that is no square."""
+    # Behind an odd period stands a solution of -1; the one of 1 stands behind the next period.
+    return even_turn(0, 1, d)
