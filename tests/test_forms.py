@@ -6,7 +6,7 @@ import unittest
 
 from tests.drawing import (
     discriminant_of, drawn_change, form_behind, forms_up_to, is_whole_square, kind_of, matrices_up_to, value_of)
-from wholeconic.forms import act, content, discriminant, divided, kind, scaled, unit_change, worth
+from wholeconic.forms import act, content, discriminant, divided, kind, point_apart, scaled, unit_change, worth
 from wholeconic.matrices import UNIT, apply, multiply, raised
 
 GREAT = 10 ** 3000 - 1
@@ -146,6 +146,17 @@ class TestUnitChange(Checks):
         self.assertEqual(unit_change((1, 1, 6), 2, 0), UNIT)
         self.assertEqual(unit_change((1, 0, -2), 6, 2), (3, 4, 2, 3))
         self.assertEqual(unit_change((1, 1, 1), 1, 1), raised((0, -1, 1, 1), 1))
+
+
+class TestPointApart(Checks):
+
+    def test_small_forms(self):
+        for form in forms_up_to(6):
+            if content(form) == 1:
+                for number in (1, -1, 2, 3, -6, 30, 210, -2310, 4 * 9 * 35):
+                    x, y = point_apart(form, number)
+                    self.assertEqual(math.gcd(x, y), 1)
+                    self.assertEqual(math.gcd(value_of(form, x, y), number), 1, (form, number))
 
 
 if __name__ == "__main__":

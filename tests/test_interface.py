@@ -29,6 +29,18 @@ LISTED = {
         "is_reduced": ["form"], "reduce_indefinite": ["form"], "step_of": ["form"], "cycle": ["form"],
         "canonical": ["form"], "least_unit": ["d"], "self_change": ["form"],
     },
+    "split": {
+        "zero_lines": ["form"], "canonical_split": ["form"], "canonical_flat": ["form"], "flat_parts": ["form"],
+    },
+    "alike": {
+        "canonical_form": ["form"], "self_group": ["form"], "proper_change": ["form", "other"],
+        "mirrored_change": ["form", "other"],
+    },
+    "classes": {
+        "classes": ["d"], "principal": ["d"], "opposite": ["form"], "compose": ["form", "other"],
+        "class_power": ["form", "many"],
+    },
+    "genera": {"genus": ["form"], "squares": ["d"], "same_genus": ["form", "other"], "class_order": ["form"]},
 }
 
 
@@ -77,6 +89,19 @@ class TestInterface(unittest.TestCase):
             ("indefinite", "canonical", {"form": (-1, 1, 1)}, ((-1, 1, 1), (1, 0, 0, 1))),
             ("indefinite", "least_unit", {"d": 5}, (3, 1)),
             ("indefinite", "self_change", {"form": (1, 0, -2)}, (3, 4, 2, 3)),
+            ("split", "canonical_split", {"form": (0, 2, 1)}, ((0, 2, 1), (1, 0, 0, 1))),
+            ("split", "canonical_flat", {"form": (5, 0, 0)}, ((5, 0, 0), (1, 0, 0, 1))),
+            ("split", "flat_parts", {"form": (4, 8, 4)}, (4, 1, 1)),
+            ("alike", "canonical_form", {"form": (1, 1, 6)}, ((1, 1, 6), (1, 0, 0, 1))),
+            ("alike", "self_group", {"form": (0, 0, 0)}, None),
+            ("alike", "proper_change", {"form": (2, 1, 3), "other": (2, -1, 3)}, None),
+            ("alike", "mirrored_change", {"form": (1, 0, 1), "other": (1, 0, 2)}, None),
+            ("classes", "classes", {"d": -20}, [(1, 0, 5), (2, 2, 3)]),
+            ("classes", "principal", {"d": -20}, (1, 0, 5)), ("classes", "opposite", {"form": (2, 1, 3)}, (2, -1, 3)),
+            ("classes", "class_power", {"form": (2, 1, 3), "many": 2}, (2, -1, 3)),
+            ("genera", "genus", {"form": (2, 2, 3)}, (-1, -1)), ("genera", "squares", {"d": -20}, [(1, 0, 5)]),
+            ("genera", "same_genus", {"form": (1, 0, 5), "other": (2, 2, 3)}, False),
+            ("genera", "class_order", {"form": (2, 1, 3)}, 3),
         ):
             module = importlib.import_module("wholeconic." + word)
             self.assertEqual(getattr(module, name)(**given), expected)

@@ -126,6 +126,26 @@ class TestLanguage(unittest.TestCase):
             for word in bound_names(node):
                 self.assertNotIn(word, dir(builtins), (name, node.lineno))
 
+    def test_no_other_name_is_that_of_an_import_or_a_class(self):
+        for name, source in sources().items():
+            tree = ast.parse(source)
+            taken = {alias.name for node in tree.body if isinstance(node, ast.ImportFrom) for alias in node.names}
+            taken |= {node.name for node in tree.body if isinstance(node, ast.ClassDef)}
+            for node in ast.walk(tree):
+                if not isinstance(node, ast.ClassDef):
+                    self.assertFalse(taken & set(bound_names(node)), (name, bound_names(node)))
+
+    def test_no_imports_in_a_ring(self):
+        wanted = {name: [] for name in sources()}
+        for name, node in nodes():
+            if isinstance(node, ast.ImportFrom) and node.module not in LIBRARY:
+                wanted[name].append(node.module.split(".")[1] + ".py")
+        while wanted:
+            free = [name for name in wanted if not any(other in wanted for other in wanted[name])]
+            self.assertTrue(free, wanted)
+            for name in free:
+                del wanted[name]
+
     def test_methods(self):
         for name, node in nodes():
             if isinstance(node, ast.Call) and isinstance(node.func, ast.Attribute):

@@ -1,6 +1,6 @@
 """Forms (a, b, c), which stand for a * x * x + b * x * y + c * y * y (points 3.1 and 3.2)."""
 
-from wholeconic.numbers import is_square, measure
+from wholeconic.numbers import is_square, measure, prime_parts
 
 
 def discriminant(form):
@@ -58,3 +58,16 @@ def unit_change(form, t, u):
     """
     a, b, c = form
     return ((t - b * u) // 2, -c * u, a * u, (t + b * u) // 2)
+
+
+def point_apart(form, number):
+    """Return a point, without a common measure, where a form of content 1 shares no measure with number != 0."""
+    a, _, c = form
+    x = y = 1
+    # Modulo each prime the value is that of a * x * x, of c * y * y, or of b * x * y where the prime measures a and c.
+    for p, _ in prime_parts(abs(number)):
+        if a % p != 0:
+            y = y * p
+        elif c % p != 0:
+            x = x * p
+    return (x, y)

@@ -1,5 +1,7 @@
 """Matrices (p, q, r, s) of two rows, and the points to which they carry (point 3.1)."""
 
+from wholeconic.numbers import bezout
+
 UNIT = (1, 0, 0, 1)
 
 
@@ -62,3 +64,10 @@ def _power_parts(trace, sign, many):
     if many % 2 == 0:
         return (trace2, times2)
     return ((trace * trace2 + (trace * trace - 4 * sign) * times2) // 2, (trace * times2 + trace2) // 2)
+
+
+def completed(point):
+    """Return a matrix of determinant 1 that carries (1, 0) to a point whose numbers are without a common measure."""
+    x, y = point
+    _, u, v = bezout(x, y)
+    return (x, -v, y, u)
