@@ -41,6 +41,20 @@ LISTED = {
         "class_power": ["form", "many"],
     },
     "genera": {"genus": ["form"], "squares": ["d"], "same_genus": ["form", "other"], "class_order": ["form"]},
+    "represent": {
+        "rooted_forms": ["d", "n"], "first_points": ["form", "n"], "definite_points": ["form", "n"],
+        "split_points": ["form", "n"], "orbit_points": ["form", "n"], "size": ["point"], "settle": ["point", "m"],
+        "measures": ["n"], "is_represented": ["form", "n"],
+    },
+    "lines": {
+        "line_of": ["d", "e", "f"], "settled_line": ["point", "direction"], "step_on": ["line", "point"],
+        "quadratic_roots": ["a", "b", "c"], "value_at": ["row", "n"],
+    },
+    "conic": {"value": ["equation", "point"], "centre": ["equation"], "solve": ["equation"]},
+    "changes": {
+        "change_equation": ["equation", "m", "shift"], "old_point": ["m", "shift", "point"],
+        "new_point": ["m", "shift", "point"], "scale_equation": ["equation", "number"], "turn_over": ["equation"],
+    },
 }
 
 
@@ -48,6 +62,8 @@ class TestInterface(unittest.TestCase):
 
     def test_values(self):
         self.assertEqual(importlib.import_module("wholeconic.matrices").UNIT, (1, 0, 0, 1))
+        self.assertEqual(importlib.import_module("wholeconic.conic").NONE, ("none",))
+        self.assertEqual(importlib.import_module("wholeconic.conic").ALL, ("all",))
 
     def test_names_arguments_and_places(self):
         for word, names in LISTED.items():
@@ -102,6 +118,28 @@ class TestInterface(unittest.TestCase):
             ("genera", "genus", {"form": (2, 2, 3)}, (-1, -1)), ("genera", "squares", {"d": -20}, [(1, 0, 5)]),
             ("genera", "same_genus", {"form": (1, 0, 5), "other": (2, 2, 3)}, False),
             ("genera", "class_order", {"form": (2, 1, 3)}, 3),
+            ("represent", "rooted_forms", {"d": -23, "n": 2}, [(2, 1, 3), (2, 3, 4)]),
+            ("represent", "first_points", {"form": (1, 0, 1), "n": 3}, []),
+            ("represent", "definite_points", {"form": (1, 0, 5), "n": 1}, [(-1, 0), (1, 0)]),
+            ("represent", "split_points", {"form": (0, 1, 0), "n": 1}, [(-1, -1), (1, 1)]),
+            ("represent", "orbit_points", {"form": (1, 0, -2), "n": 1}, ((3, 4, 2, 3), [(-1, 0), (1, 0)])),
+            ("represent", "size", {"point": (3, 4)}, 25),
+            ("represent", "settle", {"point": (3, 2), "m": (3, 4, 2, 3)}, (1, 0)),
+            ("represent", "is_represented", {"form": (1, 0, 1), "n": 3}, False),
+            ("lines", "line_of", {"d": 2, "e": 3, "f": 1}, ((1, -1), (3, -2))),
+            ("lines", "settled_line", {"point": (7, 5), "direction": (2, 3)}, ((1, -4), (2, 3))),
+            ("lines", "step_on", {"line": ((1, -4), (2, 3)), "point": (7, 5)}, 3),
+            ("lines", "quadratic_roots", {"a": 1, "b": 0, "c": -4}, [-2, 2]),
+            ("lines", "value_at", {"row": (1, 2, 3), "n": 10}, 123),
+            ("conic", "value", {"equation": (1, 2, 3, 4, 5, 6), "point": (1, 1)}, 21),
+            ("conic", "centre", {"equation": (1, 0, 1, 1, 1, 0)}, (2, -1, -1)),
+            ("conic", "solve", {"equation": (1, 0, 1, 0, 0, 0)}, ("points", ((0, 0),))),
+            ("changes", "change_equation", {"equation": (1, 0, 0, 0, 0, 0), "m": (1, 0, 0, 1), "shift": (3, 2)},
+             (1, 0, 0, 6, 0, 9)),
+            ("changes", "old_point", {"m": (0, 1, 1, 0), "shift": (3, 2), "point": (5, 7)}, (10, 7)),
+            ("changes", "new_point", {"m": (0, 1, 1, 0), "shift": (3, 2), "point": (10, 7)}, (5, 7)),
+            ("changes", "scale_equation", {"equation": (1, 2, 3, 4, 5, 6), "number": 2}, (2, 4, 6, 8, 10, 12)),
+            ("changes", "turn_over", {"equation": (1, 2, 3, 4, 5, 6)}, (3, 2, 1, 5, 4, 6)),
         ):
             module = importlib.import_module("wholeconic." + word)
             self.assertEqual(getattr(module, name)(**given), expected)

@@ -121,8 +121,18 @@ def _least_measure(n, start):
 
 def square_measures(n):
     """Return the ascending list of all g >= 1 whose square measures n != 0."""
+    return sorted(products(halved(prime_parts(abs(n)))))
+
+
+def halved(parts):
+    """Return the prime parts of the greatest number whose square measures the number with the given ones."""
+    return [(p, many // 2) for p, many in parts]
+
+
+def products(parts):
+    """Return the list, in any order, of the numbers above 0 that measure the number with the given prime parts."""
     found = [1]
-    for p, many in prime_parts(abs(n)):
-        powers = [power(p, k) for k in range(many // 2 + 1)]
+    for p, many in parts:
+        powers = [power(p, k) for k in range(many + 1)]
         found = [g * part for g in found for part in powers]
-    return sorted(found)
+    return found

@@ -16,8 +16,13 @@ def square_roots(d, m):
 
 def count_roots(d, m):
     """Return how many square roots d has modulo m, without finding them."""
+    return count_roots_by_parts(d, prime_parts(m))
+
+
+def count_roots_by_parts(d, parts):
+    """Return how many square roots d has modulo the number with the given prime parts, also with exponents 0."""
     found = 1
-    for p, many in prime_parts(m):
+    for p, many in parts:
         found = found * _count_power_roots(d, p, many)
     return found
 
