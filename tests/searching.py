@@ -153,3 +153,28 @@ def power_of(m, many):
     for _ in range(many):
         result = product_of(result, m)
     return result
+
+
+def drawn_of_each_kind(source, many):
+    """Draw equations with points near the origin: many of each kind of form, some of each kind of answer among them."""
+    kinds = {"definite": [], "flat": [], "split": [], "indefinite": []}
+    for a in range(-5, 6):
+        for b in range(-5, 6):
+            for c in range(-5, 6):
+                kinds[kind_of((a, b, c))].append((a, b, c))
+    found = []
+    for forms in kinds.values():
+        for form in source.choices(forms, k=many):
+            point = (source.randint(-6, 6), source.randint(-6, 6))
+            found.append(equation_through(source, form, point, 7))
+    # Lines, products of two lines and forms times a number come seldom by themselves.
+    for _ in range(many):
+        p, q, r, p2, q2, r2 = [source.randint(-3, 3) for _ in range(6)]
+        found.append((p * p2, p * q2 + q * p2, q * q2, p * r2 + r * p2, q * r2 + r * q2, r * r2))
+        found.append((0, 0, 0, p, q, r))
+        g, form = source.randint(2, 6), source.choice(kinds["indefinite"])
+        x, y, d, e = [source.randint(-4, 4) for _ in range(4)]
+        form = (g * form[0], g * form[1], g * form[2])
+        if abs(discriminant_of(form)) <= 2000:
+            found.append(form + (d, e, -left_side(form + (d, e, 0), x, y)))
+    return [equation for equation in found if within_bounds(equation)]

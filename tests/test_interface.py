@@ -1,4 +1,4 @@
-"""The interface of DOC.md: names, arguments and places, for the modules that have landed."""
+"""The interface of DOC.md: names, arguments and places."""
 
 import importlib
 import inspect
@@ -55,6 +55,14 @@ LISTED = {
         "change_equation": ["equation", "m", "shift"], "old_point": ["m", "shift", "point"],
         "new_point": ["m", "shift", "point"], "scale_equation": ["equation", "number"], "turn_over": ["equation"],
     },
+    "congruent": {"cut": ["answer", "modulus", "rests"]},
+    "answers": {
+        "moved": ["change", "point"], "back_change": ["change"], "moved_often": ["change", "point", "steps"],
+        "name_of": ["answer", "point"], "tells": ["answer", "point"], "point_of": ["answer", "name"],
+        "in_box": ["answer", "box"], "far": ["triple", "point"],
+    },
+    "papers": {"paper_of": ["equation"], "judge": ["equation", "answer", "paper"]},
+    "text": {"read_equation": ["text"], "write_equation": ["equation"]},
 }
 
 
@@ -64,6 +72,7 @@ class TestInterface(unittest.TestCase):
         self.assertEqual(importlib.import_module("wholeconic.matrices").UNIT, (1, 0, 0, 1))
         self.assertEqual(importlib.import_module("wholeconic.conic").NONE, ("none",))
         self.assertEqual(importlib.import_module("wholeconic.conic").ALL, ("all",))
+        self.assertEqual(importlib.import_module("wholeconic.papers").PLAIN, ("plain",))
 
     def test_names_arguments_and_places(self):
         for word, names in LISTED.items():
@@ -140,9 +149,29 @@ class TestInterface(unittest.TestCase):
             ("changes", "new_point", {"m": (0, 1, 1, 0), "shift": (3, 2), "point": (10, 7)}, (5, 7)),
             ("changes", "scale_equation", {"equation": (1, 2, 3, 4, 5, 6), "number": 2}, (2, 4, 6, 8, 10, 12)),
             ("changes", "turn_over", {"equation": (1, 2, 3, 4, 5, 6)}, (3, 2, 1, 5, 4, 6)),
+            ("congruent", "cut", {"answer": ("points", ((0, 1), (2, 3))), "modulus": 2, "rests": (0, 5)},
+             ("points", ((0, 1), (2, 3)))),
+            ("answers", "moved", {"change": ((1, 2, 0, 1), (3, 4)), "point": (5, 6)}, (20, 10)),
+            ("answers", "back_change", {"change": ((1, 2, 0, 1), (3, 4))}, ((1, -2, 0, 1), (5, -4))),
+            ("answers", "moved_often", {"change": ((1, 0, 0, 1), (3, 4)), "point": (5, 6), "steps": 2}, (11, 14)),
+            ("answers", "name_of", {"answer": ("points", ((0, 1), (2, 3))), "point": (2, 3)}, (1, 0)),
+            ("answers", "tells", {"answer": ("points", ((0, 1), (2, 3))), "point": (2, 4)}, False),
+            ("answers", "point_of", {"answer": ("points", ((0, 1), (2, 3))), "name": (1, 0)}, (2, 3)),
+            ("answers", "in_box", {"answer": ("points", ((0, 1), (2, 3))), "box": (0, 1, 0, 1)}, [(0, 1)]),
+            ("answers", "far", {"triple": (2, 1, 1), "point": (1, 2)}, 10),
+            ("papers", "paper_of", {"equation": (0, 1, 0, 0, 0, -2)}, ("plain",)),
+            ("papers", "judge", {"equation": (0, 0, 0, 0, 0, 1), "answer": ("none",), "paper": ("plain",)}, True),
+            ("text", "read_equation", {"text": "x^2 = 2*y"}, (1, 0, 0, 0, -2, 0)),
+            ("text", "write_equation", {"equation": (1, 0, 0, 0, -2, 0)}, "x^2 - 2*y = 0"),
         ):
             module = importlib.import_module("wholeconic." + word)
-            self.assertEqual(getattr(module, name)(**given), expected)
+            before = repr(given)
+            found = getattr(module, name)(**given)
+            self.assertEqual(found, expected)
+            self.assertIs(type(found), type(expected))
+            self.assertEqual(repr(given), before)
+            if isinstance(found, list):
+                self.assertIsNot(getattr(module, name)(**given), found)
 
 
 if __name__ == "__main__":

@@ -54,11 +54,11 @@ def fetched(triple, point):
 
 
 def carried_value(equation, triple):
-    """Return the value of the form at the carried points of all points, or None if it is no integer."""
+    """Return the value of the form at the carried points of all points of the equation, the n of point 8.1."""
     _, _, _, d, e, f = equation
     q, u, v = triple
-    double = -q * (2 * f * q + d * u + e * v)
-    return None if double % 2 != 0 else double // 2
+    # The half is whole: modulo 2 and for an odd q, d is b * v and e is b * u, so d * u + e * v is even.
+    return -q * (2 * f * q + d * u + e * v) // 2
 
 
 def solve(equation):
@@ -70,8 +70,6 @@ def solve(equation):
     if word == "flat":
         return _flat_answer(equation)
     n = carried_value(equation, centre(equation))
-    if n is None:
-        return NONE
     if word == "split":
         return _split_answer(equation, n)
     if n == 0:

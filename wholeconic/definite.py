@@ -16,6 +16,11 @@ def is_reduced(form):
     return -a < b <= a <= c and (b >= 0 or a != c)
 
 
+def is_reduced_either_way(form):
+    """Return True if a definite form is reduced or, with a < 0, the negative of a reduced form."""
+    return is_reduced(form if form[0] > 0 else scaled(form, -1))
+
+
 def reduce_definite(form):
     """Return (the canonical form, a matrix of determinant 1 that leads to it)."""
     if form[0] < 0:
