@@ -9,6 +9,7 @@ from tests.searching import (
     carried_back, carried_to, drawn_of_each_kind, equation_around, found_in, is_inside, left_side, row_value,
     square_around, told_in)
 from wholeconic.answers import back_change, far, in_box, moved, moved_often, name_of, point_of, tells
+from wholeconic.congruent import cut
 from wholeconic.conic import ALL, NONE, solve
 
 FEW_POINTS = [(x, y) for x in range(-2, 3) for y in range(-2, 3)]
@@ -19,7 +20,7 @@ ONE_OF_EACH = (
     ((1, 0, -2, 0, 0, -3), "none"), ((0, 0, 0, 0, 0, 0), "all"), ((1, 0, 1, 0, 0, -25), "points"),
     ((0, 0, 0, 2, 3, 1), "lines"), ((0, 1, 0, -1, -1, 1), "lines"), ((1, 0, 0, 0, 0, -4), "lines"),
     ((1, 0, 0, 0, -3, -1), "curves"), ((4, 4, 1, 3, -1, -5), "curves"), ((1, 0, -2, 0, 0, -7), "rows"),
-    ((1, 0, -2, 1, 1, 1), "rows"), ((15, 0, -30, 2, 4, -38), "rows"))
+    ((1, 0, -2, 1, 1, 1), "rows"), ((2, 0, -1, 0, 0, -1), "rows"), ((15, 0, -30, 2, 4, -38), "rows"))
 
 
 class TestChanges(unittest.TestCase):
@@ -110,8 +111,9 @@ class TestInBox(unittest.TestCase):
             for x in range(-4, 5):
                 for y in range(-4, 5):
                     self.check(equation, answer, (x, x, y, y))
-                self.check(equation, answer, (x, x, -30, 30))
-                self.check(equation, answer, (-30, 30, x, x))
+                for low, high in ((-30, 30), (-30, 0), (0, 30), (-45, -5), (6, 45)):
+                    self.check(equation, answer, (x, x + 1, low, high))
+                    self.check(equation, answer, (low, high, x - 1, x))
             for box in ((1, 0, -9, 9), (-9, 9, 1, 0), (5, -5, 5, -5), (30, -30, 0, 0), (0, 0, 30, -30)):
                 self.assertEqual(in_box(answer, box), [], (equation, box))
 
@@ -236,6 +238,23 @@ class TestNames(unittest.TestCase):
                 else:
                     self.check_other(answer, point)
             self.assertEqual(len(set(names)), len(names))
+
+    def test_names_in_cut_answers(self):
+        source = random.Random(324)
+        square = [(x, y) for x in range(-9, 10) for y in range(-9, 10)]
+        equations = [(0, 0, 0, 2, 0, 6), (0, 0, 0, 0, 3, -6), (0, 1, 0, -1, -1, 1), (1, 0, 0, 0, 0, -4)]
+        for equation in equations + drawn_of_each_kind(source, 12):
+            points = [point for point in square if left_side(equation, *point) == 0]
+            if not points or solve(equation) == ALL:
+                continue
+            for modulus in (1, 2, 3):
+                rests = source.choice(points)
+                answer = cut(solve(equation), modulus, rests)
+                for x, y in square:
+                    if (x, y) in points and (x - rests[0]) % modulus == (y - rests[1]) % modulus == 0:
+                        self.check_point(answer, (x, y))
+                    else:
+                        self.check_other(answer, (x, y))
 
     def test_where_lines_cross(self):
         source = random.Random(322)

@@ -46,17 +46,14 @@ def _cut_rows(answer, modulus, rests):
     """Return the answer of rows, cut."""
     _, change, triple, beginnings = answer
     powers = _powers_modulo(change, modulus)
-    many = len(powers)
-    matrix = raised(change[0], many)
+    matrix = raised(change[0], len(powers))
     found = []
     for beginning in beginnings:
         place = carried(triple, beginning)
         for step, rough in enumerate(powers):
             if _leaves(moved(rough, beginning), modulus, rests):
-                # The way to the new row on the shorter side makes the lesser numbers.
-                steps = step if 2 * step <= many else step - many
-                there = settle(apply(raised(change[0], steps), place), matrix)
-                found.append(fetched(triple, there))
+                there = apply(raised(change[0], step), place)
+                found.append(fetched(triple, settle(there, matrix)))
     if not found:
         return NONE
     return ("rows", change_about(triple, matrix), triple, tuple(sorted(found)))
