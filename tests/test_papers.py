@@ -7,7 +7,7 @@ import unittest
 
 from tests.drawing import determinant_of, discriminant_of, form_behind, forms_up_to, kind_of, product_of
 from tests.searching import drawn_of_each_kind, equation_around, equation_through, plain_centre, within_bounds
-from wholeconic.alike import canonical_form, self_group
+from wholeconic.alike import canonical_form, proper_change, self_group
 from wholeconic.changes import change_equation
 from wholeconic.conic import ALL, NONE, solve
 from wholeconic.indefinite import cycle
@@ -118,6 +118,12 @@ def other_reduced(source, form, m):
         return form, m
     other, n = source.choice(cycle(form))
     return other, product_of(m, n)
+
+
+def off_row(side, b, rooted):
+    """Return a row that leads from a form to a reduced one and calls it off."""
+    told, m = canonical_form(rooted)
+    return (side, b, "off", m, told)
 
 
 def other_paper(source, equation, paper):
@@ -382,14 +388,42 @@ class TestJudge(Checks):
 
     def test_off_for_an_alike_form(self):
         # The rooted forms are alike to the form, however the row leads to a reduced form.
-        equation = (1, 0, -2, 0, 0, -7)
-        primes, rows, home, ring = paper_of(equation)
-        for index, (side, b, _, _, rooted) in enumerate(rows):
-            told, m = canonical_form(rooted)
-            changed = rows[:index] + ((side, b, "off", m, told),) + rows[index + 1:]
-            for answer in (NONE, solve(equation)):
-                for other_ring in (ring, ring[:1], ring[1:], ()):
-                    self.assertIs(judge(equation, answer, (primes, changed, home, other_ring)), False)
+        for equation in ((1, 0, -2, 0, 0, -7), (1, 0, 1, 0, 0, -25), (-2, 1, -3, 0, 0, 18), (1, 1, -1, 0, 0, 11)):
+            primes, rows, home, ring = paper_of(equation)
+            self.assertIn("at", [row[2] for row in rows])
+            all_off = tuple(
+                off_row(side, b, told) if word == "at" else (side, b, word, m, told)
+                for side, b, word, m, told in rows)
+            for other_ring in (ring, ring[:1], ring[1:], ()):
+                self.assertIs(judge(equation, NONE, (primes, all_off, home, other_ring)), False)
+            for index, (side, b, word, _, rooted) in enumerate(rows):
+                if word == "at":
+                    changed = rows[:index] + (off_row(side, b, rooted),) + rows[index + 1:]
+                    for answer in (NONE, solve(equation)):
+                        for other_ring in (ring, ring[:1], ring[1:], ()):
+                            self.assertIs(judge(equation, answer, (primes, changed, home, other_ring)), False)
+
+    def test_forged_rows(self):
+        # Rows of other numbers b, each right by itself: of b more or less than one turn away, and of no roots.
+        source = random.Random(516)
+        forged = 0
+        for equation in small_equations(source, 100) + [(1, 0, 5, 0, 0, -5), (1, 1, -1, 0, 0, -1), (1, 0, 1, 0, 0, -1)]:
+            form, n = plain_case(equation)
+            primes, rows, home, ring = paper_of(equation)
+            for index, (side, b, _, _, _) in enumerate(rows):
+                rest = n // (side * side)
+                for b2 in (b - 2 * abs(rest), b + 2 * abs(rest), source.randrange(2 * abs(rest)), b + 1, b - 1):
+                    rooted = (rest, b2, (b2 * b2 - discriminant_of(form)) // (4 * rest))
+                    if kind_of(rooted) not in ("definite", "indefinite") or kind_of(rooted) != kind_of(form):
+                        continue
+                    m = proper_change(form, rooted)
+                    row = off_row(side, b2, rooted) if m is None else (side, b2, "at", m, rooted)
+                    changed = tuple(sorted(rows[:index] + (row,) + rows[index + 1:]))
+                    if b2 != b:
+                        forged += 1
+                        for answer in (solve(equation), NONE):
+                            self.check_judge(equation, answer, (primes, changed, home, ring))
+        self.assertGreater(forged, 500)
 
     def test_great_numbers_are_soon_refused(self):
         start = time.monotonic()
