@@ -149,11 +149,11 @@ def write_equation(equation):
 def _term(number, word):
     """Return the text of a term with a number above 0."""
     if word == "":
-        return _written(number)
-    return word if number == 1 else f"{_written(number)}*{word}"
+        return _digits(number)
+    return word if number == 1 else f"{_digits(number)}*{word}"
 
 
-def _written(number):
+def _digits(number):
     """Return the digits of a number above 0."""
     parts = []
     while number >= PART:
